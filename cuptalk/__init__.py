@@ -1,0 +1,1 @@
+"""Cuptalk: scattered results of a knockout cup."""
