@@ -28,6 +28,21 @@ INTERFACE = {
     },
 }
 
+FUNCTIONS = {
+    "slots": {
+        "obstacle": ["talk"], "shows_obstacle": ["talk", "thing"], "needs": ["talk"], "slots": ["talk"],
+        "cup_for": ["talk"], "cup_with": ["talk", "player", "number"],
+    },
+    "wins": {
+        "least_wins": ["talk", "player"], "greatest_wins": ["talk", "player"], "wins_table": ["talk"],
+        "champions": ["talk"], "sure_champion": ["talk"],
+    },
+    "meetings": {
+        "could_beat": ["talk", "one", "other"], "rounds_of": ["talk", "one", "other"], "conquerors": ["talk", "player"],
+        "could_meet": ["talk", "one", "other"], "certain_results": ["talk"],
+    },
+}
+
 
 def sources():
     return [(path, path.read_bytes()) for path in sorted(PACKAGE.rglob("*.py"))]
@@ -78,6 +93,15 @@ class FormTest(unittest.TestCase):
                     signature = inspect.signature(getattr(own, name))
                     self.assertEqual(parameters, list(signature.parameters), name)
         self.assertEqual(["cuptalk.talks", "cuptalk.cups"], [own.__module__ for own in INTERFACE])
+
+    def test_the_functions_of_the_interface_stand_in_their_files(self):
+        for name, functions in FUNCTIONS.items():
+            module = importlib.import_module(f"cuptalk.{name}")
+            tree = ast.parse(pathlib.Path(module.__file__).read_bytes())
+            defined = [node.name for node in tree.body if isinstance(node, ast.FunctionDef)]
+            for function, parameters in functions.items():
+                self.assertEqual(1, defined.count(function), function)
+                self.assertEqual(parameters, list(inspect.signature(getattr(module, function)).parameters), function)
 
 
 if __name__ == "__main__":

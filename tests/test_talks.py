@@ -7,15 +7,7 @@ import unittest
 from cuptalk.cups import Cup
 from cuptalk.errors import InvalidClaims, InvalidNumber, InvalidPlayer, InvalidResults, InvalidSize, InvalidTalk
 from cuptalk.talks import Talk
-from tests.helpers import HUGE, SIZES, CupTestCase, any_objects, nested, shuffled
-
-
-def all_results(size):
-    return list(itertools.permutations(range(2 ** size), 2))
-
-
-def all_claims(size):
-    return [(player, number) for player in range(2 ** size) for number in range(size + 1)]
+from tests.helpers import HUGE, SIZES, CupTestCase, all_claims, all_results, any_objects, nested, shuffled
 
 
 def greatest(claims):
