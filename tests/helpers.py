@@ -83,6 +83,29 @@ def all_claims(size):
     return [(player, number) for player in range(2 ** size) for number in range(size + 1)]
 
 
+def numbers_of_wins(many):
+    """How many matches the player at each place of an order of so many players wins, by playing it."""
+    won = [0] * many
+    left = list(range(many))
+    while len(left) > 1:
+        left = left[::2]
+        for place in left:
+            won[place] += 1
+    return won
+
+
+def orders_for(size, claims):
+    """The orders of all cups that fit some claims, ascending, found by looking at all that there are."""
+    won = numbers_of_wins(2 ** size)
+    found = []
+    # itertools yields the permutations of an ascending list in ascending order.
+    for order in itertools.permutations(range(2 ** size)):
+        places = {player: place for place, player in enumerate(order)}
+        if all(won[places[player]] >= number for player, number in claims):
+            found.append(list(order))
+    return found
+
+
 def summed(size, results, claims):
     """A talk of any number of results and claims, made by sums."""
     talk = Talk(size, [], [])

@@ -6,7 +6,7 @@ import inspect
 import pathlib
 import unittest
 
-from cuptalk import cups, talks
+from cuptalk import cups, live, talks
 
 PACKAGE = pathlib.Path(__file__).resolve().parent.parent / "cuptalk"
 LONGEST_LINE = 120
@@ -26,6 +26,15 @@ INTERFACE = {
         "conqueror": ["self", "player"], "beaten": ["self", "player"], "round_of": ["self", "one", "other"],
         "rounds": ["self"], "matches": ["self"], "talk": ["self"],
     },
+    live.LiveTalk: {
+        "__init__": ["self", "size"], "beat": ["self", "one", "other"], "claim": ["self", "player", "number"],
+        "now": ["self"], "undo": ["self"], "mark": ["self"], "undo_to": ["self", "index"], "__len__": ["self"],
+        "twin": ["self"], "refused": None,
+    },
+    live.QuietTalk: {
+        "__init__": ["self", "size"], "beat": ["self", "one", "other"], "claim": ["self", "player", "number"],
+        "twin": ["self"], "refused": None,
+    },
 }
 
 FUNCTIONS = {
@@ -41,6 +50,12 @@ FUNCTIONS = {
         "could_beat": ["talk", "one", "other"], "rounds_of": ["talk", "one", "other"], "conquerors": ["talk", "player"],
         "could_meet": ["talk", "one", "other"], "certain_results": ["talk"],
     },
+    "counting": {
+        "count_cups": ["size", "claims"], "nth_cup": ["size", "claims", "index"],
+        "cup_index": ["size", "claims", "cup"],
+    },
+    "texts": {"write_talk": ["talk"], "read_talk": ["text"], "write_cup": ["cup"], "read_cup": ["text"]},
+    "session": {"session": ["rows"]},
 }
 
 
@@ -92,7 +107,8 @@ class FormTest(unittest.TestCase):
                 else:
                     signature = inspect.signature(getattr(own, name))
                     self.assertEqual(parameters, list(signature.parameters), name)
-        self.assertEqual(["cuptalk.talks", "cuptalk.cups"], [own.__module__ for own in INTERFACE])
+        files = ["cuptalk.talks", "cuptalk.cups", "cuptalk.live", "cuptalk.live"]
+        self.assertEqual(files, [own.__module__ for own in INTERFACE])
 
     def test_the_functions_of_the_interface_stand_in_their_files(self):
         for name, functions in FUNCTIONS.items():

@@ -14,6 +14,8 @@ class ReadmeTest(unittest.TestCase):
         for words in (
             "In a knockout cup with 2 ** k players the loser of a match is out, until one champion is left.",
             "Some results are known, without their rounds, and some claims: a player won at least so many matches.",
+            "It counts and numbers the cups for some claims,",
+            "and keeps a live talk that refuses what does not fit and can undo.",
             "bash .ci/run",
         ):
             self.assertIn(words, text)
